@@ -120,7 +120,7 @@ func TestNew(t *testing.T) {
 		{"a1", nil, api.Fine}, {"a1", many(16), api.Fine}, {"0", many(3), api.Fine}, {long(199), nil, api.Fine}, {"p(" + long(197) + ")", nil, api.Fine},
 		{"", nil, api.Form}, {"y", many(17), api.Form}, {long(300), nil, api.Form}, {"a1", many(17), api.Long}, {long(201), nil, api.Long}, {long(201), with(func(c *api.PeerConfig) { c.Public = "y" }), api.Long},
 		{"a1", with(func(c *api.PeerConfig) { c.Public = "p(" + long(197) + ")" }), api.Fine}, {"a1", with(func(c *api.PeerConfig) { c.Public = "p(" + long(199) + ")" }), api.Long}, {"a1", with(func(c *api.PeerConfig) { c.Public = strings.Repeat("y", 201) }), api.Long},
-		{"a1", with(func(c *api.PeerConfig) { c.Shared = long(199) }), api.Fine}, {"a1", with(func(c *api.PeerConfig) { c.Shared = long(201) }), api.Long}, {"a1", with(func(c *api.PeerConfig) { c.Shared, c.Endpoint = "", -1 }), api.Form},
+		{"a1", with(func(c *api.PeerConfig) { c.Shared = long(199) }), api.Fine}, {"a1", with(func(c *api.PeerConfig) { c.Shared = "p(" + long(197) + ")" }), api.Fine}, {"a1", with(func(c *api.PeerConfig) { c.Shared = long(201) }), api.Long}, {"a1", with(func(c *api.PeerConfig) { c.Shared, c.Endpoint = "", -1 }), api.Form},
 		{"a1", with(func(c *api.PeerConfig) { c.Public = "y" }), api.Form}, {"a1", with(func(c *api.PeerConfig) { c.Endpoint = -1 }), api.Arg}, {"a1", with(func(c *api.PeerConfig) { c.Allowed = []api.Prefix{{}} }), api.Form},
 		{"a1", with(func(c *api.PeerConfig) { c.Public = "p(a2)" }), api.Known}, {"a1", with(func(c *api.PeerConfig) { c.Public = "p(a1)" }), api.Known}, {"a1", with(func(c *api.PeerConfig) { c.Public, c.Shared = "p(a2)", "" }), api.Form},
 		{"a1", append(with(func(c *api.PeerConfig) { c.Public = "p(a2)" }), api.PeerConfig{Public: "p(a9)", Shared: "0", Endpoint: -1}), api.Arg},
@@ -210,6 +210,21 @@ func TestTun(t *testing.T) {
 	is(t, e, api.Wait)
 	if m := sent(t, l, 2); m.Sender != 1002 {
 		t.Error(m)
+	}
+}
+
+// P16.2: the ends of time.
+func TestTimes(t *testing.T) {
+	x, y := of(t, 1, 2), of(t, 2, 3, 1)
+	l, e := x.Tun(api.MaxTime, pack(1, 2))
+	is(t, e, api.Wait)
+	l, e = pass(t, api.MaxTime, 1, y, l) // from the second one of its peers
+	is(t, e, api.Fine)
+	if sent(t, l, 1).Kind != api.Response || len(y.Peer(1).Made()) != 1 || len(y.Peer(0).Made()) != 0 {
+		t.Error(l)
+	}
+	if _, e = x.Tick(api.MaxTime); e != api.Fine {
+		t.Error(e)
 	}
 }
 

@@ -1,6 +1,7 @@
 package know_test
 
 import (
+	"slices"
 	"strconv"
 	"strings"
 	"testing"
@@ -170,6 +171,12 @@ func TestAdd(t *testing.T) {
 func TestAtoms(t *testing.T) {
 	k := with(t, "a9", "l(a10,p(a3),n4)", "s(0,a10,a100,0)", "s(0,a77,a78,0)", "0", "h(a5)")
 	if got := strings.Join(k.Atoms(), " "); got != "a10 a100 a9" {
+		t.Error("Atoms are", got)
+	}
+	for i := range 60 {
+		k.Add("a" + strconv.Itoa(1000+i*37%60))
+	}
+	if got := k.Atoms(); len(got) != 63 || !slices.IsSorted(got) {
 		t.Error("Atoms are", got)
 	}
 	k.Atoms()[0] = "a0"

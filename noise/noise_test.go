@@ -162,6 +162,22 @@ func TestHear(t *testing.T) {
 	}
 }
 
+// P10.2: where the last sum were too long.
+func TestHearLong(t *testing.T) {
+	s := long(22000)
+	c0 := h("x736e69636b6574")
+	c1, h1 := k(1, c0, "p(a3)"), h(h(c0, "p(a2)"), "p(a3)")
+	static := seal(k(2, c1, "d(a2,a3)"), "p("+s+")", h1)
+	c2 := k(1, c1, "d(a2,a3)")
+	m := api.Message{Kind: api.Init, Eph: "p(a3)", Static: static, Stamp: seal(k(2, c2, "d(a2,"+s+")"), "n1", h(h1, static)), Mac1: "0", Mac2: "0"}
+	if len(wire.Terms(m)) == 0 {
+		t.Fatal("that is no message")
+	}
+	if got, e := noise.Hear("a2", m); e != api.Long && e != api.Key && e != api.Form || got != (noise.Heard{}) {
+		t.Error("it is heard", e)
+	}
+}
+
 // P10.3: what can't be answered.
 func TestAnswer(t *testing.T) {
 	was := hear(t)

@@ -363,7 +363,7 @@ func TestOpen(t *testing.T) {
 		want api.Code
 	}{
 		{-1, api.Message{}, 1, api.Arg}, {10, m, -1, api.Arg}, {api.MaxTime + 1, m, 1, api.Arg}, {10, api.Message{}, 1, api.Form}, {10, api.Message{Kind: api.Transport, Receiver: 2000}, 1, api.Form},
-		{10, api.Message{Kind: api.CookieMsg, Receiver: 2000, Nonce: "0", Cookie: "0"}, 1, api.Form}, {10, bad, 1, api.None}, {10, other, 1, api.Key}, {180010, m, 1, api.Limit},
+		{10, api.Message{Kind: api.CookieMsg, Receiver: 2000, Nonce: "0", Cookie: "0"}, 1, api.Form}, {10, api.Message{Kind: api.CookieMsg, Receiver: 1, Nonce: "0", Cookie: "0"}, 1, api.Form}, {10, api.Message{Kind: api.Transport, Receiver: 1}, 1, api.Form}, {10, bad, 1, api.None}, {10, other, 1, api.Key}, {180010, m, 1, api.Limit},
 	} {
 		b, confirmed, e := y.Open(c.now, c.m, c.from)
 		if is(t, e, c.want); len(b) != 0 || confirmed || y.Endpoint() != 1 || y.Fresh(10) || len(y.Due(50000)) != 0 {
@@ -445,6 +445,13 @@ func due(t *testing.T, p *peer.Peer, now int64, want ...int) {
 	t.Helper()
 	if got := p.Due(now); !slices.Equal(got, want) {
 		t.Errorf("due at %d are %v, not %v", now, got, want)
+	}
+}
+
+// P15.4: what is due is told by numbers.
+func TestNumbers(t *testing.T) {
+	if got := [5]int{peer.Erase, peer.GiveUp, peer.Retry, peer.Silence, peer.Keepalive}; got != [5]int{1, 2, 3, 4, 5} {
+		t.Error(got)
 	}
 }
 

@@ -112,6 +112,21 @@ func TestNew(t *testing.T) {
 	}
 }
 
+// P18.1: whose addresses are whose.
+func TestPrefixes(t *testing.T) {
+	w := of(t, 3, "")
+	for _, c := range []struct {
+		to   []byte
+		want int
+	}{{[]byte{10, 1, 0, 0}, 2}, {[]byte{10, 1, 255, 255}, 2}, {[]byte{10, 1, 128, 7}, 2}, {[]byte{10, 2, 64, 1}, 3}, {[]byte{10, 0, 0, 1}, 0}, {[]byte{10, 3, 0, 1}, 0}, {[]byte{11, 1, 0, 1}, 0}} {
+		b, _ := packet.Make([]byte{10, 0, 0, 1}, c.to, nil)
+		l, e := w.Device(0).Tun(0, b)
+		if (e == api.Route) != (c.want == 0) || len(l) > 0 && l[0].To != c.want {
+			t.Error(c, l, e)
+		}
+	}
+}
+
 // P18.1: what is shared is shared by all, and the listener has its sum.
 func TestShared(t *testing.T) {
 	for _, q := range []string{"0", "a77", "h(a77,x00)"} {
@@ -198,6 +213,7 @@ func TestCodes(t *testing.T) {
 	w := of(t, 2, "")
 	do(t, w, tun(0, 1, 7), api.Wait)
 	had := w.Air().Had()
+	secretly, _ := wire.Print(api.Message{Kind: api.Transport, Data: "a77"})
 	for _, c := range []struct {
 		a    world.Act
 		want api.Code
@@ -207,7 +223,7 @@ func TestCodes(t *testing.T) {
 		{tun(0, 2), api.Route}, {tun(0, 255), api.Route}, {tun(0, 0), api.Route}, {tun(1, 1), api.Route},
 		{deliver(1), api.None}, {deliver(-1), api.None}, {deliver(math.MaxInt), api.None}, {world.Act{Kind: world.Deliver, N: 1, At: 1, From: 5}, api.None},
 		{world.Act{Kind: world.Redirect, At: 2, N: 0, From: 1}, api.None}, {world.Act{Kind: world.Redirect, At: 1, N: 1, From: 0}, api.None}, {world.Act{Kind: world.Redirect, At: 1, N: -1, From: 1}, api.None}, {world.Act{Kind: world.Redirect, At: 1, N: 0, From: 0}, api.Arg}, {world.Act{Kind: world.Redirect, At: 1, From: -5}, api.Arg},
-		{world.Act{Kind: world.Forge, At: 2, From: 0}, api.None}, {world.Act{Kind: world.Forge, At: 0, From: 0}, api.Arg}, {world.Act{Kind: world.Forge, At: 0, From: math.MinInt}, api.Arg},
+		{world.Act{Kind: world.Forge, At: 2, From: 0}, api.None}, {world.Act{Kind: world.Forge, At: 0, From: 0}, api.Arg}, {world.Act{Kind: world.Forge, At: 0, From: math.MinInt}, api.Arg}, {world.Act{Kind: world.Forge, At: 0, Bytes: secretly}, api.Arg}, {world.Act{Kind: world.Forge, At: 0, From: 1, Bytes: secretly}, api.Key}, {world.Act{Kind: world.Forge, At: 2, Bytes: secretly}, api.None},
 		{wait(0), api.Arg}, {wait(-1), api.Arg}, {wait(1000001), api.Arg}, {wait(math.MaxInt), api.Arg},
 		{world.Act{Kind: world.Move, At: 5, From: 0}, api.None}, {world.Act{Kind: world.Move, At: 1, From: 0}, api.Arg}, {world.Act{Kind: world.Move, At: 1, From: -1}, api.Arg}, {world.Act{Kind: world.Move, At: 1, From: 1}, api.Known},
 		{world.Act{Kind: world.Reveal, At: 2}, api.None}, {world.Act{Kind: world.Reveal, At: -1}, api.None}, {world.Act{Kind: world.Load, At: 2}, api.None}, {world.Act{Kind: world.Load, At: -1, N: 1}, api.None},
