@@ -276,3 +276,105 @@ func TestMany(t *testing.T) {
 		t.Error("not all seals by a key are open")
 	}
 }
+
+// model is what somebody has, as the document's words say it.
+type model map[string]bool
+
+func (m model) made(t string) bool {
+	if m[t] {
+		return true
+	}
+	p := term.Parts(t)
+	switch term.Kind(t) {
+	case term.Atom:
+		return false
+	case term.Dh:
+		public := func(x string) bool { return m["p("+x+")"] || m.made(x) }
+		return m.made(p[0]) && public(p[1]) || m.made(p[1]) && public(p[0])
+	}
+	for _, x := range p {
+		if !m.made(x) {
+			return false
+		}
+	}
+	return true
+}
+
+func (m model) add(l ...string) {
+	for _, t := range l {
+		m[t] = true
+	}
+	for grown := true; grown; {
+		grown = false
+		var fresh []string
+		for t := range m {
+			p := term.Parts(t)
+			switch term.Kind(t) {
+			case term.List:
+				fresh = append(fresh, p...)
+			case term.Seal:
+				if m.made(p[0]) {
+					fresh = append(fresh, p[1])
+				}
+			}
+		}
+		for _, t := range fresh {
+			grown = grown || !m[t]
+			m[t] = true
+		}
+	}
+}
+
+// P3.1: any terms, in any order, against the model.
+func TestModel(t *testing.T) {
+	seed := uint64(77)
+	next := func(n int) int {
+		seed = seed*6364136223846793005 + 1442695040888963407
+		return int(seed>>33) % n
+	}
+	var some func(depth int) string
+	some = func(depth int) string {
+		if depth == 0 || next(5) == 0 {
+			return []string{"a1", "a2", "a3", "a4", "a5", "p(a1)", "p(a3)", "0", "n1"}[next(9)]
+		}
+		kind := []int{term.Pub, term.Dh, term.Dh, term.Hash, term.Kdf, term.Mac, term.Seal, term.Seal, term.Seal, term.List}[next(10)]
+		l := []string{some(depth - 1), some(depth - 1), some(depth - 1)}
+		count := map[int]int{term.Pub: 1, term.Seal: 3, term.Hash: 1 + next(2), term.List: next(3)}
+		n, ok := count[kind]
+		if !ok {
+			n = 2
+		}
+		return term.Make(kind, 1, nil, l[:n]...)
+	}
+	opened := 0
+	for range 400 {
+		k, m := know.New(), model{}
+		for range 9 {
+			l := []string{some(3), some(2)}[:1+next(2)]
+			if e := k.Add(l...); e != api.Fine {
+				t.Fatal(l, e)
+			}
+			m.add(l...)
+			if k.Len() != len(m) {
+				t.Fatalf("behind %q had are %d, not %d", l, k.Len(), len(m))
+			}
+			for range 6 {
+				s := some(3)
+				if k.Can(s) != m.made(s) || k.Has(s) != m[s] {
+					t.Fatalf("%q: %v, %v", s, k.Can(s), k.Has(s))
+				}
+			}
+		}
+		for s := range m {
+			if !k.Has(s) {
+				t.Fatal(s, "isn't had")
+			}
+			if term.Kind(s) == term.Seal && m[term.Parts(s)[1]] {
+				opened++
+			}
+		}
+	}
+	if opened < 200 {
+		t.Error("too few seals were opened to tell:", opened)
+	}
+}
